@@ -1,0 +1,1 @@
+"""One zone, one quarter: orders, and the prices that support."""

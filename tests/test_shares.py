@@ -75,6 +75,11 @@ class SharesTest(unittest.TestCase):
         self.assertEqual(shares(0, 9, ("sell", 0, 9, 90), ("sell", 0, 9, 9), ("buy", 9, 9, 38)), [35, 3, 38])
         self.assertEqual(shares(0, 9, ("buy", 0, 9, 90), ("buy", 0, 9, 9), ("sell", 0, 0, 38)), [35, 3, 38])
 
+    def test_sure_is_what_the_next_worse_price_gives(self):
+        # One price on, the first is still ready for 30 and the second for 0: both have 10 at the money, r is 5.
+        self.assertEqual(shares(0, 9, ("sell", 0, 9, 90), ("sell", 3, 9, 60), ("buy", 9, 9, 35)), [33, 2, 35])
+        self.assertEqual(shares(0, 9, ("buy", 0, 9, 90), ("buy", 0, 6, 60), ("sell", 0, 0, 35)), [33, 2, 35])
+
     def test_orders_beyond_the_price_get_nothing(self):
         self.assertEqual(shares(0, 9, ("sell", 8, 8, 5), ("sell", 2, 2, 5), ("buy", 3, 3, 9), ("buy", 0, 1, 5)),
                          [0, 5, 5, 0])

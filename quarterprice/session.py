@@ -34,10 +34,34 @@ class Session:
                 return order
         return None
 
+    def others_than(self, order):
+        return [other for other in self.orders if other.number != order.number]
+
     def take_out(self, order):
-        self.orders = [other for other in self.orders if other.number != order.number]
+        self.orders = self.others_than(order)
 
     def put_last(self, order):
         """Let an order of the book stand behind all others."""
         self.take_out(order)
         self.orders.append(order)
+
+    def without(self, order):
+        """A session with the same bounds and all orders but that one, to be read only."""
+        rest = Session(self.lowest, self.highest)
+        rest.orders = self.others_than(order)
+        return rest
+
+    def turn_over(self):
+        """Turn the sign of all prices, so that who sold buys and who bought sells."""
+        before = self.lowest
+        self.lowest = -self.highest
+        self.highest = -before
+        for order in self.orders:
+            order.turn_over()
+
+    def shift_by(self, d):
+        """Let the bounds and all limits become more by d."""
+        self.lowest += d
+        self.highest += d
+        for order in self.orders:
+            order.shift_by(d)

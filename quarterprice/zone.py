@@ -1,7 +1,8 @@
 """The calls on one zone, handed in and answered as lists of whole numbers."""
 
 from quarterprice.actions import carry_out
-from quarterprice.ranges import are_in_range, count_of_numbers
+from quarterprice.ranges import are_in_range
+from quarterprice.reading import split_calls
 from quarterprice.session import Session
 
 BEGIN_SESSION = 0
@@ -32,12 +33,8 @@ def answers(calls):
     """Answer all calls of the list, in order, on a zone that is new."""
     zone = Zone()
     given = []
-    place = 0
-    while place < len(calls):
-        call = calls[place]
-        behind = place + 1 + count_of_numbers(call)
-        answer = zone.answer(call, calls[place + 1:behind])
+    for call, numbers in split_calls(calls):
+        answer = zone.answer(call, numbers)
         given.append(len(answer))
         given.extend(answer)
-        place = behind
     return given

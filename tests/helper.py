@@ -5,15 +5,22 @@ from quarterprice.zone import answers
 NUMBERS = {
     "open": 0, "sell": 1, "buy": 2, "cancel": 3, "cut": 4, "move": 5,
     "supply": 6, "demand": 7, "range": 8, "clear": 9, "shares": 10, "share": 11,
+    "surplus": 12, "welfare": 13, "gain": 14, "ladder": 15, "price_for": 16, "check": 17,
+    "worth": 18, "dual": 19, "book": 20, "mirror": 21, "shift": 22,
 }
 
 
 def flat(calls):
-    """One list of whole numbers from calls such as ("open", 0, 9)."""
+    """One list of whole numbers from calls such as ("open", 0, 9) or ("check", 5, [1, 1])."""
     numbers = []
     for call in calls:
         numbers.append(NUMBERS[call[0]])
-        numbers.extend(call[1:])
+        for value in call[1:]:
+            if isinstance(value, (list, tuple)):
+                numbers.append(len(value))
+                numbers.extend(value)
+            else:
+                numbers.append(value)
     return numbers
 
 
@@ -41,3 +48,8 @@ def ask(*calls):
 def last(*calls):
     """The answer to the last of the calls."""
     return ask(*calls)[-1]
+
+
+def behind(start, *calls):
+    """The answers to the calls alone, behind those of the start."""
+    return ask(*start, *calls)[len(start):]

@@ -78,8 +78,8 @@ class ClearTest(unittest.TestCase):
         self.assertEqual(outcome(0, 10000, ("sell", 0, 10000, 2), ("buy", 0, 10000, 2)), (5000, 5000, 5000, 1))
 
     def test_nothing_is_changed(self):
-        parts = ask(("open", 0, 9), ("sell", 1, 4, 5), ("buy", 2, 8, 5), ("clear",), ("range",), ("shares",), ("clear",),
-                    ("range",), ("shares",), ("supply", 9), ("demand", 0), ("sell", 0, 0, 1))
+        parts = ask(("open", 0, 9), ("sell", 1, 4, 5), ("buy", 2, 8, 5), ("clear",), ("range",), ("shares",),
+                    ("clear",), ("range",), ("shares",), ("supply", 9), ("demand", 0), ("sell", 0, 0, 1))
         self.assertEqual(parts[3:6], parts[6:9])
         self.assertEqual(parts[9:], [[0, 5], [0, 5], [0, 3]])
 

@@ -1,6 +1,7 @@
 """The package keeps to the small part of Python that it is to be written in."""
 
 import ast
+import builtins
 import re
 import unittest
 from pathlib import Path
@@ -16,6 +17,8 @@ NOT_USED = set("""register mro elements open input version_info with_traceback a
     importlib license locals methodcaller os quit setattr super vars sys print chr""".split())
 NO_WORDS = set("""type typing typing_extensions enum Enum IntEnum StrEnum Flag IntFlag Generic Protocol ABC ABCMeta
     namedtuple NamedTuple TypedDict TYPE_CHECKING abstractmethod""".split())
+PYTHONS_OWN = {name for kind in (str, int, list, tuple, dict, set, bytes) for name in dir(kind)
+               if not name.startswith("__")}
 NODES = set("""Module Expr Constant ImportFrom alias FunctionDef arguments arg Return ClassDef Assign AugAssign Name
     Attribute Call keyword Load Store If While For Break Continue Pass IfExp BoolOp And Or UnaryOp Not USub BinOp Add
     Sub Mult FloorDiv Mod Compare Lt LtE Gt GtE Eq NotEq In NotIn Is IsNot List Tuple Dict Subscript Slice ListComp
@@ -94,6 +97,34 @@ class LanguageTest(unittest.TestCase):
                     self.assertNotIn(node.attr, NOT_USED, (name, node.lineno))
                 if isinstance(node, ast.Call) and isinstance(node.func, ast.Attribute):
                     self.assertIn(node.func.attr, methods, (name, node.lineno))
+
+    def test_no_name_is_a_method_here_and_a_value_there(self):
+        methods = set()
+        values = set()
+        for name, tree in trees():
+            for node in ast.walk(tree):
+                if isinstance(node, ast.ClassDef):
+                    methods |= {part.name for part in node.body if isinstance(part, ast.FunctionDef)}
+                if isinstance(node, ast.Attribute) and isinstance(node.ctx, ast.Store):
+                    values.add(node.attr)
+        self.assertEqual(methods & values, set())
+        self.assertEqual((methods - METHODS) & PYTHONS_OWN, set())
+        self.assertEqual(values & PYTHONS_OWN, set())
+
+    def test_parameters_and_locals_hide_no_import_and_no_class(self):
+        for name, tree in trees():
+            above = {one.name for node in tree.body if isinstance(node, ast.ImportFrom) for one in node.names}
+            above |= {node.name for node in tree.body if isinstance(node, ast.ClassDef)}
+            for node in ast.walk(tree):
+                if isinstance(node, ast.arg):
+                    self.assertNotIn(node.arg, above | set(dir(builtins)), (name, node.lineno))
+                if isinstance(node, ast.Name) and isinstance(node.ctx, ast.Store):
+                    self.assertNotIn(node.id, above | set(dir(builtins)), (name, node.lineno))
+
+    def test_two_lambdas_do_not_stand_on_one_line(self):
+        for name, tree in trees():
+            rows = [node.lineno for node in ast.walk(tree) if isinstance(node, ast.Lambda)]
+            self.assertEqual(len(rows), len(set(rows)), name)
 
     def test_imports(self):
         drawn = {}

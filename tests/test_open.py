@@ -6,11 +6,15 @@ from tests.helper import ask
 
 NEED_A_SESSION = [
     ("sell", 0, 1, 1), ("buy", 0, 1, 1), ("cancel", 1), ("cut", 1, 1), ("move", 1, 0, 1), ("supply", 0),
-    ("demand", 0), ("range",), ("clear",), ("shares",), ("share", 1),
+    ("demand", 0), ("range",), ("clear",), ("shares",), ("share", 1), ("surplus", 1), ("welfare",), ("gain", 1),
+    ("ladder", 0), ("price_for", 1, 1), ("check", 0, []), ("worth", []), ("dual", 0), ("book",), ("mirror",),
+    ("shift", 0),
 ]
 OUT_OF_RANGE = [
     ("sell", 1, 0, 1), ("buy", 0, 1, 0), ("cancel", 10 ** 18 + 1), ("cut", 1, 0), ("move", 1, 1, 0),
-    ("supply", 1000001), ("demand", -1000001), ("share", -10 ** 18 - 1),
+    ("supply", 1000001), ("demand", -1000001), ("share", -10 ** 18 - 1), ("surplus", 10 ** 18 + 1),
+    ("gain", -10 ** 18 - 1), ("ladder", 2), ("price_for", 0, 0), ("check", 1000001, []), ("check", 0, [-1]),
+    ("worth", [0] * 65), ("dual", 1000001), ("shift", -2000001),
 ]
 
 
@@ -41,6 +45,10 @@ class OpenTest(unittest.TestCase):
     def test_calls_refused_without_a_session_leave_nothing_behind(self):
         parts = ask(("sell", 0, 1, 1), ("buy", 0, 1, 1), ("open", 0, 9), ("shares",), ("sell", 0, 1, 1))
         self.assertEqual(parts, [[-2], [-2], [0], [0], [0, 1]])
+
+    def test_refused_calls_open_no_session(self):
+        for call in NEED_A_SESSION + OUT_OF_RANGE:
+            self.assertEqual(ask(call, ("book",))[1], [-2], call)
 
     def test_second_open_begins_anew(self):
         parts = ask(("open", 0, 9), ("sell", 1, 1, 5), ("buy", 8, 8, 5), ("open", -4, 4), ("shares",), ("range",),

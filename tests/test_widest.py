@@ -5,7 +5,8 @@ from random import Random
 from time import perf_counter
 
 from quarterprice.zone import answers
-from tests.helper import ask, flat, split
+from tests.helper import ask, behind, flat, last, split
+from tests.slow import make, worth_by_prices
 
 LOW = -1000000
 HIGH = 1000000
@@ -38,6 +39,11 @@ def total(orders, side, p):
 def supports(orders, p):
     return (LOW <= p <= HIGH and total(orders, "sell", p - 1) <= total(orders, "buy", p)
             and total(orders, "buy", p + 1) <= total(orders, "sell", p))
+
+
+def price_and_shares(start):
+    clear, shares = behind(start, ("clear",), ("shares",))
+    return clear[1], shares[1:]
 
 
 class WidestTest(unittest.TestCase):
@@ -81,8 +87,8 @@ class WidestTest(unittest.TestCase):
         self.assertEqual(parts[3:], [[0, LOW, HIGH], [0, 0, MOST], [0, MOST, MOST]])
 
     def test_four_hundred_calls_in_reasonable_time(self):
-        for name in ("shares", "range", "clear", "share"):
-            asked = (name, 1) if name == "share" else (name,)
+        for asked in (("shares",), ("range",), ("clear",), ("share", 1), ("surplus", 64), ("welfare",), ("gain", 7),
+                      ("ladder", 0), ("price_for", 1, 32 * MOST // 3), ("dual", -1), ("book",)):
             calls = [("open", LOW, HIGH)] + wide_orders(5, 20000) + [asked] * 335
             self.assertEqual(len(calls), 400)
             begun = perf_counter()
@@ -108,6 +114,96 @@ class WidestTest(unittest.TestCase):
             calls += [("buy", 0, 0, n), ("cancel", n)]
             expected += [[0, n], [0, n]]
         self.assertEqual(ask(*calls), expected)
+
+
+class WorthTest(unittest.TestCase):
+    """surplus, welfare, gain, worth and dual with the largest amounts, limits up to 10000 apart and 64 orders."""
+
+    def worth(self, order, x):
+        side, p0, p1, q = order
+        return worth_by_prices(make(1, 0 if side == "sell" else 1, p0, p1, q), x)
+
+    def gain(self, order, x, p):
+        return self.worth(order, x) + (p * x if order[0] == "sell" else -p * x)
+
+    def test_against_the_limits_price_by_price(self):
+        for seed, spread in ((1, 10000), (2, 12000), (3, 1000000)):
+            orders = wide_orders(seed, spread)
+            start = (("open", LOW, HIGH), *orders)
+            price, shares = price_and_shares(start)
+            parts = behind(start, ("welfare",), ("worth", shares), ("dual", price), ("dual", price + 77),
+                           *[("surplus", n) for n in range(1, 65)], ("check", price, shares))
+            welfare = sum(self.worth(order, x) for order, x in zip(orders, shares))
+            self.assertEqual(parts[:3], [[0, welfare]] * 3, seed)
+            self.assertEqual(parts[3], [0, sum(self.gain(o, ready(o, price + 77), price + 77) for o in orders)], seed)
+            self.assertEqual(parts[4:68], [[0, self.gain(o, x, price)] for o, x in zip(orders, shares)], seed)
+            self.assertEqual(parts[68], [0, 1], seed)
+
+    def test_gain_is_what_is_missing_without_the_order(self):
+        orders = wide_orders(9, 12000)
+        start = (("open", LOW, HIGH), *orders)
+        welfare = last(*start, ("welfare",))[1]
+        told = behind(start, *[("gain", n) for n in range(1, 65)])
+        for place in range(64):
+            rest = orders[:place] + orders[place + 1:]
+            self.assertEqual(told[place], [0, welfare - last(("open", LOW, HIGH), *rest, ("welfare",))[1]], place)
+
+    def test_above_the_53rd_bit_by_hand(self):
+        # Sold from -1000000 on and bought up to 1000000, 10000 apart: 100000 units at each price but the first.
+        orders = [("sell", LOW, LOW + 10000, MOST), ("buy", HIGH - 10000, HIGH, MOST)] * 32
+        one = MOST * HIGH - 100000 * (10000 * 10001 // 2)
+        start = (("open", LOW, HIGH), *orders)
+        self.assertEqual(one, 994999500000000)
+        self.assertEqual(behind(start, ("clear",), ("welfare",), ("worth", [MOST] * 64), ("surplus", 1),
+                                ("surplus", 2)),
+                         [[0, 0, 32 * MOST], [0, 64 * one], [0, 64 * one], [0, one], [0, one]])
+        # The dearest unit of one seller goes, with the worst of the buyers' at the price of before.
+        self.assertEqual(behind(start, ("worth", [MOST - 1, MOST - 1] + [MOST] * 62)), [[0, 64 * one - 2 * 990000]])
+        self.assertEqual(behind(start, ("dual", HIGH), ("dual", LOW)), [[0, 32 * (one + MOST * HIGH)]] * 2)
+        # Far above 2^53, and the last digit is still there.
+        self.assertEqual(behind((("open", LOW, HIGH), ("sell", LOW, LOW, MOST), ("buy", HIGH, HIGH, MOST - 1),
+                                 ("buy", 999999, 999999, 1), ("sell", LOW, LOW, MOST), ("buy", HIGH, HIGH, MOST),
+                                 *[("sell", LOW, LOW, MOST), ("buy", HIGH, HIGH, MOST)] * 20), ("welfare",)),
+                         [[0, 22 * 2 * HIGH * MOST - 1]])
+
+    def test_below_zero_and_beyond_the_53rd_bit(self):
+        orders = [("sell", HIGH, HIGH, MOST), ("buy", LOW, LOW, MOST)] * 32
+        start = (("open", LOW, HIGH), *orders)
+        self.assertEqual(behind(start, ("welfare",), ("worth", [MOST] * 64), ("worth", [MOST - 1] * 64)),
+                         [[0, 0], [0, -64 * HIGH * MOST], [0, -64 * HIGH * (MOST - 1)]])
+
+    def test_four_hundred_calls_mixed(self):
+        orders = wide_orders(4, 12000)
+        start = [("open", LOW, HIGH), *orders]
+        price, shares = price_and_shares(start)
+        asked = []
+        for n in range(1, 65):
+            asked += [("surplus", n), ("gain", n), ("welfare",), ("dual", price)]
+        asked += [("worth", shares), ("check", price, shares)] * 39 + [("welfare",)]
+        self.assertEqual(len(start) + len(asked), 400)
+        self.assertLessEqual(len(flat(start + asked)), 17000)
+        begun = perf_counter()
+        parts = behind(start, *asked)
+        self.assertLess(perf_counter() - begun, SECONDS)
+        welfare = parts[-1][1]
+        self.assertEqual(sum(part[1] for call, part in zip(asked, parts) if call[0] == "surplus"), welfare)
+        for call, part in zip(asked, parts):
+            if call[0] in ("welfare", "dual", "worth"):
+                self.assertEqual(part, [0, welfare])
+            elif call[0] == "check":
+                self.assertEqual(part, [0, 1])
+            elif call[0] == "gain":
+                self.assertGreaterEqual(part[1], parts[asked.index(("surplus", call[1]))][1])
+
+    def test_mirror_and_shift_of_wide_books(self):
+        orders = wide_orders(6, 12000)
+        told = (("book",), ("range",), ("clear",), ("shares",), ("welfare",), ("gain", 5), ("surplus", 6), ("dual", 3))
+        start = (("open", -12000, 12000), *orders)
+        before = behind(start, *told)
+        self.assertEqual(behind(start, ("mirror",), ("shift", 988000), ("shift", -988000), ("mirror",), *told)[4:],
+                         before)
+        self.assertEqual(behind(start, ("shift", -988000), ("welfare",), ("gain", 5), ("mirror",), ("welfare",))[1:],
+                         [before[4], before[5], [0], before[4]])
 
 
 if __name__ == "__main__":
